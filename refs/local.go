@@ -12,7 +12,7 @@ func Locals(c api.Config) ([]int, api.Errno) {
 	w := wait(c)
 	var l []int
 	for w.free.Len() > 0 {
-		i := heap.Pop(&w.free).(int)
+		i := w.next()
 		l = append(l, i)
 		w.done(local(c.Locals[i]))
 	}
@@ -59,6 +59,9 @@ func wait(c api.Config) *waiting {
 	}
 	return w
 }
+
+// next takes the first of the locals that wait for none.
+func (w *waiting) next() int { return heap.Pop(&w.free).(int) }
 
 // done counts a local of a name as done: who waited for that name alone waits no more.
 func (w *waiting) done(r api.Ref) {
